@@ -1,0 +1,1 @@
+"""Whole-number filters in stages, and what cutting off does."""
