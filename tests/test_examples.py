@@ -3,6 +3,8 @@
 import doctest
 import unittest
 
+from stagecuts.errors import CutsError
+
 PLANS = """
     >>> from stagecuts.plans import inputs_of, offsets_of, plan_error, stages_of, with_offsets
     >>> half, chain = (2, 0, ((1, 0), (1, 1))), (2, 1, ((1, 0), (1, (2, 0, ((1, 1), (1, 2))))))
@@ -14,18 +16,97 @@ PLANS = """
     >>> stages_of(four), inputs_of(four), offsets_of(four), offsets_of(with_offsets(four, (0, 1, 0))), with_offsets(half, (1,))
     (((), (0,), (1,)), 4, (1, 0, 0), (0, 1, 0), (2, 1, ((1, 0), (1, 1))))
 """
+TEXTS = """
+    >>> from stagecuts.plantexts import plan_text, read_plan
+    >>> plan_text(chain), read_plan("(4 2: 6*0 -1*1 -1*2)"), read_plan(plan_text(four)) == four
+    ('(2 1: 1*0 1*(2 0: 1*1 1*2))', (4, 2, ((6, 0), (-1, 1), (-1, 2))), True)
+    >>> read_plan("(2 0: 1*0  1*1)")
+    raises BadText()
+    >>> read_plan("(2 0: 1*1)")
+    raises BadText()
+    >>> read_plan("(2 00: 1*0)")
+    raises BadText()
+"""
+RUNNING = """
+    >>> from stagecuts.running import error_of, exact_of, rests_of, told_by
+    >>> blend = (4, 1, ((3, 0), (1, (2, 0, ((1, 1), (-1, 2))))))
+    >>> told_by(blend, (5, 7, 2)), rests_of(blend, (5, 7, 2)), told_by(blend, (-1, 0, 1)), rests_of(blend, (-1, 0, 1))
+    (4, (2, 1), -1, (1, 1))
+    >>> less = (2, 0, ((1, 0), (-1, (3, 1, ((1, 1), (2, 2))))))
+    >>> told_by(less, (4, 5, 1)), rests_of(less, (4, 5, 1)), told_by(less, (10 ** 40, 0, 0)), rests_of(less, (10 ** 40, 0, 0))
+    (1, (0, 2), 5000000000000000000000000000000000000000, (0, 1))
+    >>> added = (1, 0, ((2, 0), (1, (1, 0, ((1, 1), (3, 2))))))
+    >>> told_by(added, (5, -4, 2)), rests_of(added, (5, -4, 2))
+    (12, (0, 0))
+"""
+EXACT = """
+    >>> exact_of(blend, (5, 7, 2)), error_of(blend, (5, 7, 2)), exact_of(blend, (-1, 0, 1)), error_of(blend, (-1, 0, 1))
+    ((35, 8), (-3, 8), (-7, 8), (-1, 8))
+    >>> exact_of(less, (4, 5, 1)), error_of(less, (4, 5, 1)), exact_of(added, (5, -4, 2)), error_of(added, (5, -4, 2))
+    ((5, 6), (1, 6), (12, 1), (0, 1))
+"""
+SHARES = """
+    >>> from stagecuts.shares import form_of, shares_of
+    >>> shares_of(blend), form_of(blend), shares_of(less), form_of(less)
+    (((1, 1), (1, 4)), ((3, 4), (1, 8), (-1, 8)), ((1, 1), (-1, 2)), ((1, 2), (-1, 6), (-1, 3)))
+    >>> shares_of(added), form_of(added), shares_of((6, 5, ((-1, 0),))), form_of((6, 5, ((-1, 0),)))
+    (((1, 1), (1, 1)), ((2, 1), (1, 1), (3, 1)), ((1, 1),), ((-1, 6),))
+"""
+SLIPS = """
+    >>> from stagecuts.slips import all_slips, greatest_slip, least_slip
+    >>> blend, less = (4, 1, ((3, 0), (1, (2, 0, ((1, 1), (-1, 2)))))), (2, 0, ((1, 0), (-1, (3, 1, ((1, 1), (2, 2))))))
+    >>> least_slip(blend), greatest_slip(blend), least_slip(less), greatest_slip(less)
+    ((-5, 8), (1, 4), (-2, 3), (1, 6))
+    >>> all_slips(blend)
+    ((-5, 8), (-1, 2), (-3, 8), (-1, 4), (-1, 8), (0, 1), (1, 8), (1, 4))
+    >>> all_slips(less), all_slips((3, 1, ((1, 0), (1, 1), (1, 2))))
+    (((-2, 3), (-1, 2), (-1, 3), (-1, 6), (0, 1), (1, 6)), ((-1, 3), (0, 1), (1, 3)))
+    >>> all_slips((1, 0, ((2, 0), (1, (2, 1, ((1, 1), (1, 2))))))), all_slips((1, 0, ((5, 0), (-4, 1))))
+    (((0, 1), (1, 2)), ((0, 1),))
+    >>> all_slips((4097, 0, ((1, 0),)))
+    raises TooMany(4096)
+"""
+
+
+def outcome(source, names):
+    """Return what is shown of source, or what it raises, as the document writes it."""
+    try:
+        try:
+            code = compile(source, "DOC.md", "eval")
+        except SyntaxError:
+            exec(source, names)
+            return ""
+        return repr(eval(code, names)) + "\n"
+    except CutsError as error:
+        held = ", ".join(repr(value) for value in vars(error).values())
+        return f"raises {type(error).__name__}({held})\n"
 
 
 class ExamplesTest(unittest.TestCase):
     def check(self, text, many):
-        test = doctest.DocTestParser().get_doctest(text, {}, "DOC.md", None, 0)
-        self.assertEqual(len(test.examples), many)
-        written = []
-        failed, tried = doctest.DocTestRunner(verbose=False).run(test, out=written.append)
-        self.assertEqual((failed, tried), (0, many), "".join(written))
+        examples = doctest.DocTestParser().get_examples(text)
+        self.assertEqual(len(examples), many)
+        names = {}
+        for example in examples:
+            self.assertEqual(outcome(example.source, names), example.want, example.source)
 
     def test_plans(self):
         self.check(PLANS, 6)
+
+    def test_texts(self):
+        self.check(PLANS + TEXTS, 6 + 5)
+
+    def test_running(self):
+        self.check(RUNNING, 7)
+
+    def test_exact(self):
+        self.check(RUNNING + EXACT, 7 + 2)
+
+    def test_shares(self):
+        self.check(RUNNING + SHARES, 7 + 3)
+
+    def test_slips(self):
+        self.check(SLIPS, 7)
 
 
 if __name__ == "__main__":

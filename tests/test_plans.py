@@ -1,29 +1,24 @@
 import unittest
 
-from strict import CHAIN, FOUR, GREAT, HALF, StrictCase, row_of_stages, tower
+from strict import (
+    CHAIN,
+    FOUR,
+    FULL,
+    GREAT,
+    HALF,
+    MIXED,
+    ONE,
+    WIDE,
+    WIDE_WAYS,
+    StrictCase,
+    divisors_of,
+    row_of_stages,
+    tower,
+)
 
 from stagecuts.plans import inputs_of, offsets_of, plan_error, stages_of, with_offsets
 
-ONE = (GREAT, GREAT - 1, ((-1, 0),))
-# Thirteen parts at the outermost stage, stages at the places 1, 2, 9, 10 and 12.
-WIDE = (7, 3, (
-    (1, 0), (2, (1, 0, ((1, 1),))), (3, (5, 4, ((1, 2), (-2, (6, 1, ((1, 3),)))))), (1, 4), (1, 5),
-    (1, 6), (1, 7), (1, 8), (1, 9), (-1, (2, 1, ((1, 10),))),
-    (1, (4, 2, ((1, (3, 2, ((1, 11),))), (1, 12)))), (5, 13), (GREAT, (9, 8, ((1, 14), (GREAT, 15)))),
-))
-WIDE_WAYS = ((), (1,), (2,), (2, 1), (9,), (10,), (10, 0), (12,))
-# Inputs that do not stand in the order of their numbers.
-MIXED = (3, 1, ((1, 3), (-4, (10, 9, ((1, 1), (1, (8, 0, ((3, 4), (5, 0))))))), (1, 2)))
-ALL = (HALF, CHAIN, FOUR, ONE, WIDE, MIXED, tower(8), row_of_stages(12))
-
-
-def divisors_of(plan):
-    """Return the divisors in order, by a way of its own through the plan."""
-    found = [plan[0]]
-    for _, thing in plan[2]:
-        if isinstance(thing, tuple):
-            found += divisors_of(thing)
-    return found
+ALL = (HALF, CHAIN, FOUR, ONE, WIDE, MIXED, FULL, tower(8), row_of_stages(12))
 
 
 class PlansCase(StrictCase):
