@@ -22,3 +22,8 @@ def sum_of(fractions):
             total_above * below + above * total_below, total_below * below
         )
     return (total_above, total_below)
+
+
+def is_below(first, second):
+    """Tell whether the fraction first is below the fraction second."""
+    return first[0] * second[1] < second[0] * first[1]

@@ -2,6 +2,10 @@
 
 import unittest
 from fractions import Fraction
+from itertools import product
+from math import gcd
+
+from stagecuts.errors import BadLog, BadPlan, TooMany, Unfit
 
 HALF = (2, 0, ((1, 0), (1, 1)))
 CHAIN = (2, 1, ((1, 0), (1, (2, 0, ((1, 1), (1, 2))))))
@@ -57,6 +61,62 @@ PLANS = (
     (3, 1, ((2, (2, 1, ((1, (2, 0, ((-1, 2),))), (-3, (3, 2, ((1, 1),))))),), (-1, 0))),
     (6, 5, ((-1, 0),)), (1, 0, ((1, 0),)), (1, 0, ((5, 0), (-4, 1))),
 )
+# Plans of few rests, by weights of both signs, shares of all sizes, and divisors 1.
+SMALL = (
+    HALF, CHAIN, FOUR, BLEND, LESS, ADDED, (3, 0, ((1, 0),)), (6, 5, ((-1, 0),)), (1, 0, ((1, 0),)),
+    (2, 0, ((2, (2, 0, ((1, 0),))), (1, 1))), (1, 0, ((3, (4, 0, ((1, 0),))), (1, 1))),
+    (1, 0, ((-3, (4, 0, ((1, 0),))), (1, 1))), (1, 0, ((5, 0), (-4, (1, 0, ((-1, 1),))))),
+    (2, 0, ((-1, (3, 0, ((1, 0), (-1, (2, 0, ((-1, 1),)))))),)),
+    (3, 0, ((-2, (2, 0, ((1, 0),))), (-3, (2, 0, ((-1, 1),))))),
+    (2, 1, ((-1, (1, 0, ((7, (3, 1, ((1, 0),))), (-2, 1)))),)),
+)
+# Values of all kinds that are no integers, and no tuples that anything asks for.
+NO_INTEGERS = (
+    None, True, False, "", "1", "one", "many\nlines", (), (1,), (1, 0), (None,), ((),), [], [1], [[]], {}, {1: 1},
+    {(1, "a"): [None]}, {"one": ((0, 1), (1, 2))}, Unfit(), TooMany(1), BadPlan(("form", ())), BadLog(0),
+    ("x",) * 4000, "x" * 20000,
+)
+
+
+class Dice:
+    """Numbers that look thrown, the same ones at each run."""
+
+    def __init__(self, begin):
+        self.state = begin
+
+    def below(self, many):
+        self.state = (self.state * 6364136223846793005 + 1442695040888963407) % 2 ** 64
+        return (self.state >> 33) * many >> 31
+
+    def pick(self, items):
+        return items[self.below(len(items))]
+
+    def mixed(self, items):
+        left = list(items)
+        return [left.pop(self.below(len(left))) for _ in items]
+
+
+def thrown_plan(dice, stages, inputs, divisors, weights):
+    """Return a plan of so many stages, and as many inputs or more, by these divisors and weights."""
+    beneath, depths = [[] for _ in range(stages)], [0]
+    for at in range(1, stages):
+        above = dice.pick([number for number in range(at) if depths[number] < 7])
+        beneath[above].append(at)
+        depths.append(depths[above] + 1)
+    leaves = [at for at in range(stages) if not beneath[at]]
+    homes = leaves + [dice.below(stages) for _ in range(inputs - len(leaves))]
+    for number, home in zip(dice.mixed(range(len(homes))), homes):
+        beneath[home].append((number,))
+
+    def made(at):
+        things = [thing[0] if isinstance(thing, tuple) else made(thing) for thing in dice.mixed(beneath[at])]
+        taken = [dice.pick(weights) for _ in things]
+        if gcd(*taken) != 1:
+            taken[dice.below(len(taken))] = dice.pick((1, -1))
+        divisor = dice.pick(divisors)
+        return (divisor, dice.below(divisor), tuple(zip(taken, things)))
+
+    return made(0)
 
 
 def divisors_of(plan):
@@ -68,11 +128,24 @@ def divisors_of(plan):
     return found
 
 
+def inputs_in(thing):
+    """Return a list of the inputs in thing, by a way of its own."""
+    if isinstance(thing, int):
+        return [thing]
+    return [number for _, beneath in thing[2] for number in inputs_in(beneath)]
+
+
 def moving_by(thing, number):
     """Return the product of the divisors of the stages that have this input, 0 if none has."""
     if isinstance(thing, int):
         return int(thing == number)
     return thing[0] * sum(moving_by(beneath, number) for _, beneath in thing[2])
+
+
+def all_rows(plan):
+    """Return rows by which all rests come that come at all ([B5])."""
+    many = len(inputs_in(plan))
+    return product(*(range(moving_by(plan, at)) for at in range(many)))
 
 
 def numbers(many, size, begin=1):
@@ -82,6 +155,29 @@ def numbers(many, size, begin=1):
         begin = begin * 6364136223846793005 ** 5 % (2 ** 521 - 1)
         found.append(begin % (2 * size + 1) - size)
     return tuple(found)
+
+
+def spread_by_stages(thing, share=Fraction(1)):
+    """Return what thing and all beneath it add to the spread, by Fractions."""
+    if isinstance(thing, int):
+        return Fraction(0)
+    divisor, _, parts = thing
+    beneath = [spread_by_stages(part, share * weight / divisor) for weight, part in parts]
+    return abs(share) * (1 - Fraction(1, divisor)) + sum(beneath)
+
+
+def spoilt(value):
+    """Return values that are not built as value is: of other kinds, too short or too long."""
+    if isinstance(value, str):
+        return [value.upper(), value + " ", " " + value, value[1:], value[:-1], "", value.encode(), None, (value,), 1]
+    if isinstance(value, int):
+        found = [str(value), None, (value,), [value], (value, 1), {value: value}]
+        return found + [bool(value)] if value in (0, 1) else found
+    found = [list(value), value + (0,), value + value[-1:], value[:-1], value[1:], (value,), [value], None, 0, True]
+    found += [dict(enumerate(value)), (), value + (None,), repr(value)]
+    for at, item in enumerate(value):
+        found += [value[:at] + (other,) + value[at + 1:] for other in spoilt(item)]
+    return found
 
 
 def worth(pair):
@@ -117,21 +213,30 @@ class StrictCase(unittest.TestCase):
         """For == True is 1; as they are written they differ, lists and tuples too."""
         self.assertEqual(repr(found), repr(wanted))
 
-    def assert_tells(self, function, arguments, wanted):
+    def told_alike(self, function, arguments):
         """Call by place and by name, twice each; what is handed in has to stay."""
         written = repr(arguments)
+        wanted = function(*arguments.values())
         for _ in range(2):
             self.assert_same(function(*arguments.values()), wanted)
             self.assert_same(function(**arguments), wanted)
             turned = dict(reversed(list(arguments.items())))
             self.assert_same(function(**turned), wanted)
         self.assertEqual(repr(arguments), written)
+        return wanted
+
+    def assert_tells(self, function, arguments, wanted):
+        """Call by place and by name, as told_alike does: wanted has to be told."""
+        self.assert_same(self.told_alike(function, arguments), wanted)
 
     def assert_refuses(self, function, arguments, kind, held):
         """Call by place and by name, twice each: kind has to be raised, holding held."""
+        written = repr(arguments)
+        turned = dict(reversed(list(arguments.items())))
         for _ in range(2):
-            for by_place, by_name in ((tuple(arguments.values()), {}), ((), arguments)):
+            for by_place, by_name in ((tuple(arguments.values()), {}), ((), arguments), ((), turned)):
                 with self.assertRaises(kind) as caught:
                     function(*by_place, **by_name)
                 self.assertIs(type(caught.exception), kind)
                 self.assert_same(vars(caught.exception), held)
+        self.assertEqual(repr(arguments), written)

@@ -66,6 +66,35 @@ SLIPS = """
     >>> all_slips((4097, 0, ((1, 0),)))
     raises TooMany(4096)
 """
+REACHING = """
+    >>> from stagecuts.reaching import reach
+    >>> from stagecuts.running import rests_of, told_by
+    >>> [(told_by(blend, row), rests_of(blend, row)) for row in (reach(blend, (2, 1), 4), reach(blend, (0, 0), -100), reach(blend, (3, 1), 10 ** 30))] == [(4, (2, 1)), (-100, (0, 0)), (10 ** 30, (3, 1))]
+    True
+    >>> reach((6, 5, ((-1, 0),)), (2,), 7), reach((1, 0, ((1, 0),)), (0,), -3)
+    ((-39,), (-3,))
+    >>> reach(blend, (2, 1), True)
+    raises Unfit()
+"""
+ROUNDING = """
+    >>> from stagecuts.rounding import rounding_holds, rounding_paper, spread
+    >>> spread(half), spread(chain), spread(four), spread((1, 0, ((1, 0), (-3, 1))))
+    ((1, 2), (3, 4), (1, 1), (0, 1))
+    >>> rounding_paper(half), rounding_paper(chain), rounding_paper((4, 3, ((1, 0), (-1, (2, 1, ((1, 1),))))))
+    (('one', (0, 1), (1, 2)), ('one', (1, 2), (3, 4)), ('one', (3, 4), (7, 8)))
+    >>> [rounding_holds(four, value) for value in (("two", (1, 1, 0, 0), (1, 0, 1, 0)), ("two", (1, 0, 1, 0), (1, 1, 0, 0)), ("one", (1, 2), (1, 2)), ["two", (1, 1, 0, 0), (1, 0, 1, 0)], ("two", (1, 1, 0), (1, 0, 1)), None)]
+    [True, False, False, False, False, False]
+    >>> rounding_holds(four, rounding_paper(four)), rounding_holds(chain, ("one", (1, 2), (3, 4))), rounding_holds(chain, ("one", (2, 4), (3, 4)))
+    (True, True, False)
+"""
+TURNING = """
+    >>> from stagecuts.turning import beside, turned_by, turned_rows
+    >>> wide = (1, 0, ((3, (4, 0, ((1, 0),))), (1, 1)))
+    >>> turned_by(half), turned_by(four), turned_by(wide), spread(wide)
+    (0, 1, 2, (9, 4))
+    >>> [beside(four, fraction) for fraction in ((1, 2), (0, 1), (1, 4), (-1, 1), (3, 2))], beside(chain, (1, 2)), beside(chain, (3, 4))
+    ([(True, False), (False, True), (False, True), (False, True), (True, False)], (True, True), (True, False))
+"""
 
 
 def outcome(source, names):
@@ -107,6 +136,15 @@ class ExamplesTest(unittest.TestCase):
 
     def test_slips(self):
         self.check(SLIPS, 7)
+
+    def test_reaching(self):
+        self.check(SLIPS + REACHING, 7 + 5)
+
+    def test_rounding(self):
+        self.check(PLANS + ROUNDING, 6 + 5)
+
+    def test_turning(self):
+        self.check(PLANS + ROUNDING + TURNING, 6 + 5 + 4)
 
 
 if __name__ == "__main__":

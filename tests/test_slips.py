@@ -5,19 +5,18 @@ from math import prod
 
 from strict import (
     ADDED,
-    BLEND,
     CHAIN,
     FOUR,
     FULL,
     GREAT,
     HALF,
-    LESS,
     ONE,
     PLANS,
+    SMALL,
     WIDE,
     StrictCase,
+    all_rows,
     divisors_of,
-    moving_by,
     numbers,
     pair_of,
     row_of_stages,
@@ -32,15 +31,6 @@ from stagecuts.running import error_of
 from stagecuts.shares import shares_of
 from stagecuts.slips import all_slips, greatest_slip, least_slip
 
-# Plans of few rests, by weights of both signs, shares of all sizes, and divisors 1.
-SMALL = (
-    HALF, CHAIN, FOUR, BLEND, LESS, ADDED, (3, 0, ((1, 0),)), (6, 5, ((-1, 0),)), (1, 0, ((1, 0),)),
-    (2, 0, ((2, (2, 0, ((1, 0),))), (1, 1))), (1, 0, ((3, (4, 0, ((1, 0),))), (1, 1))),
-    (1, 0, ((-3, (4, 0, ((1, 0),))), (1, 1))), (1, 0, ((5, 0), (-4, (1, 0, ((-1, 1),))))),
-    (2, 0, ((-1, (3, 0, ((1, 0), (-1, (2, 0, ((-1, 1),)))))),)),
-    (3, 0, ((-2, (2, 0, ((1, 0),))), (-3, (2, 0, ((-1, 1),))))),
-    (2, 1, ((-1, (1, 0, ((7, (3, 1, ((1, 0),))), (-2, 1)))),)),
-)
 # The products of all their divisors are 4096 or a little less.
 ENOUGH = (
     (4096, 7, ((1, 0),)), (4095, 0, ((-1, 0),)), row_of_stages(12), (64, 63, ((-1, (64, 0, ((1, 0),))),)),
@@ -60,9 +50,8 @@ TOO_MANY = (
 
 def by_all_rows(plan):
     """Return all errors, seen at rows that have all the rests that come ([B5])."""
-    steps = [moving_by(plan, at) for at in range(inputs_of(plan))]
     found = set()
-    for row in product(*map(range, steps)):
+    for row in all_rows(plan):
         told, _, exact = run(plan, row)
         found.add(told - exact)
     return tuple(pair_of(error) for error in sorted(found))
