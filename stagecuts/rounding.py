@@ -19,10 +19,15 @@ def spread(plan):
     return sum_of([spread_of_stage(stage, share) for stage, share in stages_with_shares(plan)])
 
 
+def is_one_rounding(plan):
+    """Tell whether all stages of plan together are one rounding of its exact value."""
+    return is_below(spread(plan), (1, 1))
+
+
 def ends_of_fit(plan):
     """Return the fractions from which on, and below which, plan is the rounding that adds one.
 
-    There is none between them, and plan is no rounding, if the first one is not the lower.
+    If plan is no rounding the first of them is not below the second, and none is between.
     """
     return greatest_slip(plan), sum_of([least_slip(plan), (1, 1)])
 
@@ -36,8 +41,8 @@ def are_turned(plan, first, second):
 
 def rounding_paper(plan):
     """Return a paper: by which fractions plan is one rounding, or two rows that refute it."""
-    low, high = ends_of_fit(plan)
-    if is_below(low, high):
+    if is_one_rounding(plan):
+        low, high = ends_of_fit(plan)
         return ("one", low, high)
     return ("two", greatest_error_row(plan, 1), least_error_row(plan, 0))
 
@@ -50,7 +55,7 @@ def rounding_holds(plan, value):
     if word == "one":
         if not is_row(first, 2) or not is_row(second, 2):
             return False
-        return (first, second) == ends_of_fit(plan) and is_below(first, second)
+        return (first, second) == ends_of_fit(plan) and is_one_rounding(plan)
     if word == "two":
         many = inputs_of(plan)
         return is_row(first, many) and is_row(second, many) and are_turned(plan, first, second)

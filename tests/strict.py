@@ -208,6 +208,14 @@ def run(thing, row):
     return told, (by_whole - divisor * told,) + rests, exact
 
 
+def told(thing, row):
+    """Return what thing tells, as run does, but without all else."""
+    if isinstance(thing, int):
+        return row[thing]
+    divisor, offset, parts = thing
+    return (sum(weight * told(beneath, row) for weight, beneath in parts) + offset) // divisor
+
+
 class StrictCase(unittest.TestCase):
     def assert_same(self, found, wanted):
         """For == True is 1; as they are written they differ, lists and tuples too."""

@@ -95,6 +95,105 @@ TURNING = """
     >>> [beside(four, fraction) for fraction in ((1, 2), (0, 1), (1, 4), (-1, 1), (3, 2))], beside(chain, (1, 2)), beside(chain, (3, 4))
     ([(True, False), (False, True), (False, True), (False, True), (True, False)], (True, True), (True, False))
 """
+CHANGES = """
+    >>> from stagecuts.changes import all_changes, change_row, greatest_change, least_change
+    >>> blend = (4, 1, ((3, 0), (1, (2, 0, ((1, 1), (-1, 2))))))
+    >>> [all_changes(blend, (1, 0), steps) for steps in ((0, 0, 0), (0, 1, 0), (2, 0, 0), (0, 0, 3), (0, 1, 1))]
+    [(0,), (0, 1), (1, 2), (-1, 0), (0,)]
+    >>> [(least_change(blend, offsets, (0, 0, 0)), greatest_change(blend, offsets, (0, 0, 0))) for offsets in ((3, 1), (0, 1), (1, 1), (0, 0))]
+    [(0, 1), (-1, 0), (0, 1), (-1, 0)]
+    >>> holes = (2, 0, ((5, (3, 0, ((1, 0),))), (1, 1)))
+    >>> all_changes(holes, (0, 0), (1, 0)), all_changes(holes, (1, 0), (1, -1)), all_changes(holes, (0, 2), (0, 10 ** 30))
+    ((0, 2, 3), (0, 2, 3), (500000000000000000000000000000, 500000000000000000000000000002, 500000000000000000000000000003))
+"""
+CHANGE_ROW = """
+    >>> from stagecuts.plans import with_offsets
+    >>> from stagecuts.running import told_by
+    >>> first = change_row(blend, (1, 0), (0, 1, 0), 1)
+    >>> told_by(blend, (first[0], first[1] + 1, first[2])) - told_by(blend, first), told_by(blend, (2, 1, 0)), told_by(blend, (2, 2, 0))
+    (1, 1, 2)
+    >>> second = change_row(blend, (0, 1), (0, 0, 0), -1)
+    >>> told_by(with_offsets(blend, (0, 1)), second) - told_by(blend, second)
+    -1
+    >>> change_row(holes, (0, 0), (1, 0), 1)
+    raises Unfit()
+    >>> change_row(blend, (1, 0), (0, 1, 0), True)
+    raises Unfit()
+"""
+OFFSETS = """
+    >>> from stagecuts.offsets import best_offsets, offsets_for
+    >>> line, turned = (2, 0, ((1, (4, 0, ((1, 0), (3, 1)))),)), (2, 0, ((-1, (4, 0, ((1, 0),))),))
+    >>> [offsets_for(line, fraction) for fraction in ((0, 1), (1, 2), (1, 3), (7, 8), (99, 100))]
+    [(0, 0), (1, 0), (0, 2), (1, 3), (1, 3)]
+    >>> offsets_for(turned, (0, 1)), offsets_for(turned, (1, 2)), offsets_for(turned, (3, 4)), offsets_for((3, 0, ((1, 0), (5, (1, 0, ((1, 1), (-1, 2)))))), (1, 2))
+    ((0, 3), (1, 3), (1, 1), (1, 0))
+    >>> offsets_for(line, (1, 1))
+    raises Unfit()
+    >>> offsets_for(line, (-1, 8))
+    raises Unfit()
+    >>> split = (2, 0, ((2, (2, 0, ((1, 0),))), (1, 1)))
+    >>> offsets_for(split, (1, 2))
+    raises Unfit()
+    >>> best_offsets((3, 0, ((1, 0),))), best_offsets((4, 0, ((1, 0),)))[0], best_offsets((4, 0, ((1, 0),)))[1] in ((1,), (2,))
+    (((1, 3), (1,)), (1, 2), True)
+    >>> best_offsets(line)[0], best_offsets(line)[1] in ((1, 0), (0, 3)), best_offsets(split)[0], best_offsets(split)[1] in ((0, 1), (1, 0))
+    ((1, 2), True, (1, 2), True)
+    >>> best_offsets((4097, 0, ((1, 0),)))
+    raises TooMany(4096)
+"""
+MERGING = """
+    >>> from stagecuts.merging import joined, merged
+    >>> from stagecuts.running import told_by
+    >>> half, means = (2, 0, ((1, 0), (1, 1))), (2, 1, ((1, (2, 0, ((1, 0), (1, 1)))), (1, (2, 1, ((1, 2), (1, 3))))))
+    >>> merged(means), merged(half)
+    ((4, 2, ((1, 0), (1, 1), (2, (2, 1, ((1, 2), (1, 3)))))), (2, 0, ((1, 0), (1, 1))))
+    >>> below = (3, 1, ((1, (4, 2, ((-1, (2, 0, ((3, 0), (1, 1)))), (5, 2)))),))
+    >>> merged(below), [(told_by(below, row), told_by(merged(below), row)) for row in ((0, 0, 2), (1, 0, 0), (7, 0, 0))]
+    ((24, 13, ((-3, 0), (-1, 1), (10, 2))), [(1, 1), (0, 0), (-1, -1)])
+    >>> merged((5, 2, ((2, (1, 0, ((1, 0), (-3, 1)))), (3, 2)))), merged((1, 0, ((2, half), (1, 2))))
+    ((5, 2, ((2, 0), (-6, 1), (3, 2))), (1, 0, ((2, (2, 0, ((1, 0), (1, 1)))), (1, 2))))
+    >>> merged((10 ** 30, 0, ((1, half), (1, 2))))
+    raises TooMany(1000000000000000000000000000000)
+"""
+JOINING = """
+    >>> joined(half, 0, half), joined(half, 1, half)
+    ((2, 0, ((1, (2, 0, ((1, 0), (1, 1)))), (1, 2))), (2, 0, ((1, 0), (1, (2, 0, ((1, 1), (1, 2)))))))
+    >>> joined(below, 2, (1, 0, ((1, 0),)))
+    (3, 1, ((1, (4, 2, ((-1, (2, 0, ((3, 0), (1, 1)))), (5, (1, 0, ((1, 2),)))))),))
+    >>> joined(half, 2, half)
+    raises Unfit()
+"""
+SHEETS = """
+    >>> from stagecuts.plans import stages_of
+    >>> from stagecuts.sheets import Sheet, sheet_behind
+    >>> blend, pair = (4, 1, ((3, 0), (1, (2, 0, ((1, 1), (-1, 2)))))), (3, 0, ((2, 0), (5, 1)))
+    >>> s = Sheet(blend)
+    >>> [s.version, s.told((4, 3, 6)), s.one(), s.put((1,), 1), s.told((4, 3, 6)), s.merge(), s.told((4, 3, 6)), stages_of(s.plan)]
+    [0, 2, True, 1, 3, 2, 3, ((),)]
+    >>> [s.undo(), s.join(0, pair), s.one(), s.told((1, 2, 3, 6)), s.undo(), s.redo(), s.log == (("put", (1,), 1), ("join", 0, pair))]
+    [1, 2, False, 3, 1, 2, True]
+    >>> s.put((2,), 0)
+    raises Unfit()
+    >>> s.put((), 4)
+    raises Unfit()
+    >>> s.told((1, 2, 3))
+    raises Unfit()
+    >>> s.redo()
+    raises NothingToRedo()
+    >>> Sheet((10 ** 30, 0, ((1, (2, 1, ((1, 0),))),))).merge()
+    raises TooMany(1000000000000000000000000000000)
+    >>> Sheet(((4, 1),))
+    raises BadPlan(('form', ()))
+"""
+BEHIND = """
+    >>> behind = sheet_behind(blend, s.log)
+    >>> behind.plan == s.plan, behind.log == s.log, behind.version, sheet_behind(blend, ()).plan == blend
+    (True, True, 2, True)
+    >>> sheet_behind(blend, (("merge",), ("put", (1,), 0)))
+    raises BadLog(1)
+    >>> sheet_behind(blend, [])
+    raises BadLog(0)
+"""
 
 
 def outcome(source, names):
@@ -145,6 +244,23 @@ class ExamplesTest(unittest.TestCase):
 
     def test_turning(self):
         self.check(PLANS + ROUNDING + TURNING, 6 + 5 + 4)
+
+    def test_changes(self):
+        self.check(CHANGES + CHANGE_ROW, 6 + 8)
+
+    def test_offsets(self):
+        self.check(OFFSETS, 11)
+
+    def test_merging(self):
+        self.check(MERGING + JOINING, 8 + 3)
+
+    def test_sheets(self):
+        self.check(SHEETS + BEHIND, 12 + 4)
+
+    def test_all_in_their_order(self):
+        early = PLANS + TEXTS + RUNNING + EXACT + SHARES + SLIPS + REACHING + ROUNDING + TURNING
+        late = CHANGES + CHANGE_ROW + OFFSETS + MERGING + JOINING + SHEETS + BEHIND
+        self.check(early + late, 6 + 5 + 7 + 2 + 3 + 7 + 5 + 5 + 4 + 52)
 
 
 if __name__ == "__main__":

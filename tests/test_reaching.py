@@ -40,7 +40,8 @@ P, Q, R = 10 ** 15 - 11, 10 ** 15 - 53, 10 ** 14 - 27
 # Any one weight left out, an integer above 1 divides all the others.
 ALL_BUT_TOGETHER = (
     (6, 10, 15), (-6, 10, 15), (6, -10, 15), (15, 10, -6), (10, 6, 15), (-6, -10, -15), (30, 42, 70, 105),
-    (6, 10, -15, 30), (60, -36, 45, 40), (GREAT, GREAT - 1), (1 - GREAT, GREAT), (2 ** 99, 3 ** 62), (3 ** 62, -2 ** 99),
+    (6, 10, -15, 30), (60, -36, 45, 40), (GREAT, GREAT - 1), (1 - GREAT, GREAT), (2 ** 99, 3 ** 62),
+    (3 ** 62, -2 ** 99),
     tuple(prod(PRIMES) // prime for prime in PRIMES), tuple(-prod(PRIMES) // prime for prime in reversed(PRIMES)),
     (P * Q, P * R, -Q * R), (-P * R, P * Q, Q * R),
 )
@@ -145,7 +146,8 @@ class BoundsTest(ReachingCase):
             self.check_some_rests((3, 1, ((-1, (2, 0, ((1, 0),))),) + parts))
 
     def test_24_inputs(self):
-        for weights in ((1,) * 24, (GREAT,) * 23 + (1,), (-1,) + (GREAT,) * 23, (6, 10, 15) * 8, (2,) * 23 + (1 - GREAT,)):
+        for weights in ((1,) * 24, (GREAT,) * 23 + (1,), (-1,) + (GREAT,) * 23, (6, 10, 15) * 8,
+                        (2,) * 23 + (1 - GREAT,)):
             self.check_some_rests(stage_by(weights))
         self.check_some_rests(WIDE)
 

@@ -134,7 +134,8 @@ class SpreadTest(RoundingCase):
     def test_great_numbers(self):
         self.check_spread(ABOVE[2], pair_of(1 - Fraction(1, GREAT) + 1 - Fraction(1, GREAT)))
         self.check_spread(JUST_BELOW[0], pair_of(1 - Fraction(1, GREAT ** 2)))
-        self.check_spread((1, 0, ((-GREAT, (GREAT - 1, 5, ((1, 0),))), (1, 1))), pair_of(Fraction(GREAT * (GREAT - 2), GREAT - 1)))
+        self.check_spread((1, 0, ((-GREAT, (GREAT - 1, 5, ((1, 0),))), (1, 1))),
+                          pair_of(Fraction(GREAT * (GREAT - 2), GREAT - 1)))
 
     def test_by_the_stages(self):
         for plan in PLANS + SMALL + JUST_BELOW + JUST_1 + ABOVE:
@@ -255,7 +256,8 @@ class HoldsTest(RoundingCase):
                 self.assertIs(rounding_holds(plan, paper), wanted)
 
     def test_other_fractions(self):
-        grid = sorted({pair_of(Fraction(above, below)) for below in (1, 2, 4, 8) for above in range(-below, 2 * below + 1)})
+        grid = sorted({pair_of(Fraction(above, below)) for below in (1, 2, 4, 8)
+                       for above in range(-below, 2 * below + 1)})
         for plan in (HALF, CHAIN, BLEND, FOUR, SPLIT, FAR_APART, (1, 0, ((1, 0),)), (1, 0, ((5, 0), (-4, 1)))):
             paper = rounding_paper(plan)
             for low, high in product(grid, repeat=2):
@@ -288,7 +290,8 @@ class HoldsTest(RoundingCase):
     def test_bools_for_integers(self):
         plan = (1, 0, ((1, 0),))
         self.check_holds(plan, ("one", (0, 1), (1, 1)), True)
-        for value in (("one", (False, 1), (1, 1)), ("one", (0, True), (1, 1)), ("one", (0, 1), (True, 1)), ("one", (0, 1), (1, True))):
+        for value in (("one", (False, 1), (1, 1)), ("one", (0, True), (1, 1)), ("one", (0, 1), (True, 1)),
+                      ("one", (0, 1), (1, True))):
             self.check_holds(plan, value, False)
         self.check_holds(FOUR, ("two", (1, 1, 0, 0), (1, 0, 1, 0)), True)
         for at in range(4):
@@ -309,7 +312,8 @@ class HoldsTest(RoundingCase):
             _, first, second = rounding_paper(plan)
             self.check_holds(HALF, ("two", first, second), False)
             self.check_holds(FOUR, ("one", first, second), False)
-            for word in ("", "One", "TWO", "one two", "three", "paper", 1, 2, True, None, ("one",), ["two"], {"one": 1}):
+            for word in ("", "One", "TWO", "one two", "three", "paper", 1, 2, True, None, ("one",), ["two"],
+                         {"one": 1}):
                 self.check_holds(plan, (word, first, second), False)
 
     def test_all_small_rows(self):

@@ -144,7 +144,8 @@ class BesideTest(TurningCase):
             for above in range(-60, 61):
                 fraction = Fraction(above, 24)
                 floors = [(floor(exact + fraction), told) for told, _, exact in results]
-                wanted = (not any(found < told for found, told in floors), not any(found > told for found, told in floors))
+                wanted = (not any(found < told for found, told in floors),
+                          not any(found > told for found, told in floors))
                 self.assert_same(beside(plan, pair_of(fraction)), wanted)
 
     def test_both_ends(self):
